@@ -1,0 +1,1 @@
+"""Tidewaiter: moments, spans that the weather ends, and a keeper who is never caught out."""
