@@ -5,10 +5,17 @@ import inspect
 import unittest
 
 from tidewaiter.laying import bases, bounds, heard_spans, offset
+from tidewaiter.papers import meaning, paper_fits
+from tidewaiter.settle import settled, steered
+from tidewaiter.table import Table, table_fits
+from tidewaiter.waiter import Waiter
 from tidewaiter.web import Web
 
 FUNCTIONS = {
     "laying": {"bases": "(web)", "bounds": "(web)", "heard_spans": "(web)", "offset": "(web, name)"},
+    "table": {"table_fits": "(web, table)"},
+    "papers": {"meaning": "(web, rows)", "paper_fits": "(web, paper)"},
+    "settle": {"settled": "(web)", "steered": "(web)"},
 }
 METHODS = {
     ("web", "Web"): {
@@ -17,6 +24,15 @@ METHODS = {
         "with_tie": "(self, one, other, *, least=None, most=None)", "without": "(self, name)",
         "without_tie": "(self, at)", "moments": "(self)", "spans": "(self)", "ties": "(self)", "points": "(self)",
         "__eq__": "(self, other)", "__len__": "(self)", "__repr__": "(self)"},
+    ("table", "Table"): {
+        "__init__": "(self, betweens, untils)", "between": "(self, x, y)", "until": "(self, end, x)",
+        "betweens": "(self)", "untils": "(self)", "__eq__": "(self, other)", "__len__": "(self)",
+        "__repr__": "(self)"},
+    ("waiter", "Waiter"): {
+        "__init__": "(self, web)", "may": "(self)", "must": "(self)", "told": "(self)", "due": "(self, name)",
+        "do": "(self, name)", "hear": "(self, end)", "pass_on": "(self)", "step_back": "(self)",
+        "tighten": "(self, one, other, *, least=None, most=None)", "go": "(self, steps)", "is_over": "(self)",
+        "rest": "(self)", "twin": "(self)", "__len__": "(self)"},
 }
 VALUES = {"web": {"BY": 100}}
 
@@ -55,6 +71,40 @@ class Interface(unittest.TestCase):
         self.assertEqual(bounds(web=web), [("start", "a", 6), ("a", "start", 0), ("a", "b", 2), ("b", "a", -1)])
         self.assertEqual(heard_spans(web=web), [("b", "a", 1, 2)])
         self.assertEqual(offset(web=web, name="b"), ("b", 0, 0))
+
+    def test_settling_by_name(self):
+        web = Web(by=5).with_moment("a").with_span("b", "a", 1, 2)
+        answer, table = settled(web=web)
+        self.assertEqual((answer, steered(web=web), table_fits(table=table, web=web)), ("yes", True, True))
+        self.assertEqual(Table(untils=table.untils(), betweens=table.betweens()), table)
+        self.assertEqual((table.between(y="b", x="a"), table.until(x="a", end="b")), (2, 0))
+        tight = web.with_tie("start", "a", most=-1)
+        rows, ring = settled(web=tight)[1]
+        self.assertEqual(len(meaning(rows=rows, web=tight)), len(rows))
+        self.assertIs(paper_fits(paper=(rows, ring), web=tight), True)
+
+    def test_waiting_by_name(self):
+        waiter = Waiter(web=Web(by=5).with_moment("a").with_span("b", "a", 1, 2))
+        waiter.tighten(one="start", other="a", least=0, most=4)
+        waiter.do(name="a")
+        waiter.go(steps=[("pass",)])
+        waiter.hear(end="b")
+        self.assertEqual((waiter.due(name="a"), waiter.clock, waiter.is_over(), len(waiter)), (0, 1, True, 3))
+        self.assertEqual(waiter.web, Web(5).with_moment("a").with_span("b", "a", 1, 2).with_tie(
+            "start", "a", least=0, most=4))
+
+    def test_what_stands_behind_the_star_by_its_name_only(self):
+        web = Web().with_moment("a")
+        for call in (lambda: web.with_span("e", "a", 1, 2, 0), lambda: web.with_tie("start", "a", 1),
+                     lambda: Waiter(web).tighten("start", "a", 1), lambda: Waiter(web).tighten("start", "a", 1, 2)):
+            with self.assertRaises(TypeError):
+                call()
+
+    def test_values_are_set_at_once(self):
+        web = Web(7).with_moment("a")
+        waiter = Waiter(web)
+        self.assertEqual((vars(waiter)["clock"], vars(waiter)["web"]), (0, web))
+        self.assertIs(type(waiter.clock), int)
 
 
 if __name__ == "__main__":

@@ -187,6 +187,18 @@ class Statements(unittest.TestCase):
                 if isinstance(node.func, ast.Name) and node.func.id in ("any", "all", "min", "max", "sum", "sorted"):
                     self.assertEqual([side for side in node.args if isinstance(side, ast.GeneratorExp)], [], path)
 
+    def test_own_errors_alone_are_caught(self):
+        own = {node.name for path, tree in trees() if path.stem == "errors" for node in nodes(tree, ast.ClassDef)}
+        for path, tree in trees():
+            for node in nodes(tree, ast.ExceptHandler):
+                self.assertIn(getattr(node.type, "id", None), own | {"KeyError", "ZeroDivisionError"}, path)
+
+    def test_len_tells_a_len(self):
+        for path, tree in trees():
+            for function in [node for node in nodes(tree, ast.FunctionDef) if node.name == "__len__"]:
+                for node in nodes(function, ast.Return):
+                    self.assertEqual(ast.unparse(node)[:11], "return len(", path)
+
     def test_raise_makes_its_error_on_the_spot(self):
         for path, tree in trees():
             for node in nodes(tree, ast.Raise):

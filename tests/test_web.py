@@ -376,12 +376,6 @@ class Telling(Case):
 
 
 class Equality(Case):
-    def check_apart(self, one, other):
-        self.assertFalse(one == other)
-        self.assertFalse(other == one)
-        self.assertTrue(one != other)
-        self.assertTrue(other != one)
-
     def test_equal(self):
         one, other = small_web(), small_web()
         self.assertTrue(one == other and other == one and one == one)

@@ -1,6 +1,6 @@
 """Webs: a last tick, moments, spans and ties."""
 
-from tidewaiter.checks import is_name, is_whole
+from tidewaiter.checks import is_name, is_one_of, is_whole
 from tidewaiter.errors import BadBy, BadLate, BadLength, BadName, BadTie, Full
 from tidewaiter.errors import NoMoment, NoPoint, NoTie, Taken, Used
 
@@ -121,7 +121,7 @@ def woven(by, moments, spans, ties):
 
 def is_begin(web, name):
     """Whether a span can begin there: at start or at a moment."""
-    return isinstance(name, str) and (name == START or name in web.moments())
+    return is_one_of(name, [START] + web.moments())
 
 
 def is_used(web, name):
@@ -149,5 +149,5 @@ def need_free_name(web, name):
 
 def need_point(web, name):
     """Refuses what is no point of the web."""
-    if not isinstance(name, str) or name not in web.points():
+    if not is_one_of(name, web.points()):
         raise NoPoint(name)
