@@ -1,12 +1,14 @@
 """What several test files share."""
 
 import itertools
+import random
 import string
 import unittest
 from unittest import mock
 
-from tidewaiter.errors import BadNews, Done, NoMoment, NoSpan, Over, TooEarly, TooLate, Unbegun, Unheard
+from tidewaiter.errors import BadNews, BadPlan, Done, NoMoment, NoSpan, Over, TooEarly, TooLate, Unbegun, Unheard
 from tidewaiter.laying import bases, heard_spans
+from tidewaiter.plans import need_plan
 from tidewaiter.settle import settled
 from tidewaiter.web import Web
 
@@ -68,10 +70,86 @@ def middling_random_web(rng):
     return with_random_ties(rng, web, rng.randint(0, 7), 15)
 
 
+def answering_random_web(rng):
+    """Spans whose ends are to be answered soon, so that the news count."""
+    web = with_moments(letters(rng.randint(1, 2)), rng.randint(12, 40))
+    web = with_random_spans(rng, web, rng.randint(1, 3), 9, (0, 0, 0, 1, 2, None))
+    for end, begin, low, high, late in web.spans():
+        web = web.with_moment(end * 2).with_tie(end, end * 2, least=rng.randint(-2, 1), most=rng.randint(1, 4))
+    return with_random_ties(rng, web, rng.randint(0, 2), 15)
+
+
+def any_random_web(rng):
+    return rng.choice([small_random_web, middling_random_web, answering_random_web])(rng)
+
+
+def settled_webs(rng, count, wanted, maker=any_random_web):
+    """So many random webs with this answer, "yes" or "no", each with its table or paper."""
+    found = 0
+    while found < count:
+        web = maker(rng)
+        answer, proof = settled(web)
+        if answer == wanted:
+            found += 1
+            yield web, proof
+
+
+def random_part(rng, size=9):
+    """An ours or a weather."""
+    least, most = sorted([rng.randint(0, size), rng.randint(0, size)])
+    return rng.choice([("ours", least, most), ("weather", least + 1, most + 1, rng.choice([0, 0, 1, 3, None]))])
+
+
+def random_plan(rng, depth=4, words=("then", "beside", "within", "either"), widest=3):
+    """Made as plans are, but it may have too many parts or readings."""
+    if depth == 1 or rng.random() < 0.2:
+        return random_part(rng)
+    word = rng.choice(words)
+    if word == "within":
+        return (word, rng.randint(0, 30), random_plan(rng, depth - 1, words, widest))
+    return (word, [random_plan(rng, depth - 1, words, widest) for _ in range(rng.randint(1, widest))])
+
+
+def is_plan(plan):
+    try:
+        return need_plan(plan) is None
+    except BadPlan:
+        return False
+
+
+def random_good_plan(rng, *args):
+    while True:
+        plan = random_plan(rng, *args)
+        if is_plan(plan):
+            return plan
+
+
 def tie_holds(tie, ticks):
     one, other, least, most = tie
     behind = ticks[other] - ticks[one]
     return (least is None or least <= behind) and (most is None or behind <= most)
+
+
+def do_nothing(tick, done, heard):
+    return []
+
+
+def by_plan(plan):
+    """A keeper that does at each tick what a dict tells."""
+    return lambda tick, done, heard: list(plan.get(tick, []))
+
+
+def mixer(web, seed):
+    """A keeper whose doings hang on all that it knows, in no way that is easy to foresee."""
+    def keeper(tick, done, heard):
+        rng = random.Random(repr((seed, tick, sorted(done.items()), sorted(heard.items()))))
+        return [name for name in web.moments() if name not in done and rng.random() < 0.4]
+    return keeper
+
+
+def random_lengths(rng, web):
+    """Lengths at their bounds, and between them."""
+    return {end: rng.choice([low, high, rng.randint(low, high)]) for end, begin, low, high, late in web.spans()}
 
 
 class Mirror:

@@ -4,10 +4,14 @@ import importlib
 import inspect
 import unittest
 
+from tidewaiter.asks import corners, culprits, deaf, deafest, foreseen, soonest, widest
 from tidewaiter.laying import bases, bounds, heard_spans, offset
 from tidewaiter.papers import meaning, paper_fits
+from tidewaiter.plans import chosen, laid, need_plan, readings
+from tidewaiter.play import broken, by_table, play, spoil
 from tidewaiter.settle import settled, steered
 from tidewaiter.table import Table, table_fits
+from tidewaiter.tongue import read_plan, write_plan
 from tidewaiter.waiter import Waiter
 from tidewaiter.web import Web
 
@@ -16,6 +20,12 @@ FUNCTIONS = {
     "table": {"table_fits": "(web, table)"},
     "papers": {"meaning": "(web, rows)", "paper_fits": "(web, paper)"},
     "settle": {"settled": "(web)", "steered": "(web)"},
+    "play": {"play": "(web, keeper, lengths)", "broken": "(web, ticks)", "by_table": "(web, table, *, lazy=False)",
+             "spoil": "(web, paper, keeper)"},
+    "asks": {"deaf": "(web)", "foreseen": "(web)", "corners": "(web)", "widest": "(web, end)",
+             "deafest": "(web, end)", "soonest": "(web)", "culprits": "(web)"},
+    "plans": {"need_plan": "(plan)", "readings": "(plan)", "laid": "(plan, *, by=100)", "chosen": "(plan, *, by=100)"},
+    "tongue": {"write_plan": "(plan)", "read_plan": "(text)"},
 }
 METHODS = {
     ("web", "Web"): {
@@ -93,10 +103,33 @@ class Interface(unittest.TestCase):
         self.assertEqual(waiter.web, Web(5).with_moment("a").with_span("b", "a", 1, 2).with_tie(
             "start", "a", least=0, most=4))
 
+    def test_playing_by_name(self):
+        web = Web(by=5).with_moment("a").with_span("b", "a", 1, 2)
+        keeper = by_table(table=settled(web)[1], web=web, lazy=True)
+        ticks = play(lengths={"b": 2}, keeper=keeper, web=web)
+        self.assertEqual((ticks, broken(ticks=ticks, web=web)), ({"start": 0, "a": 5, "b": 7}, None))
+        tight = web.with_tie("start", "a", most=-1)
+        self.assertEqual(list(spoil(keeper=keeper, paper=settled(tight)[1], web=tight)), ["b"])
+
+    def test_asking_by_name(self):
+        web = Web(by=5).with_span("b", "start", 1, 2)
+        self.assertEqual((deaf(web=web).spans(), foreseen(web=web)), ([("b", "start", 1, 2, None)], True))
+        self.assertEqual((corners(web=web), culprits(web=web)), ([{"b": 1}, {"b": 2}], []))
+        self.assertEqual((widest(end="b", web=web), deafest(end="b", web=web), soonest(web=web)), (1000, 1000, 1))
+
+    def test_planning_by_name(self):
+        plan = ("ours", 2, 5)
+        self.assertEqual((need_plan(plan=plan), readings(plan=plan)), (None, [plan]))
+        self.assertEqual(laid(by=9, plan=plan), Web(9).with_moment("a").with_tie("start", "a", least=2, most=5))
+        self.assertEqual((chosen(by=9, plan=plan), chosen(by=1, plan=plan)), (plan, None))
+        self.assertEqual(read_plan(text=write_plan(plan=plan)), plan)
+
     def test_what_stands_behind_the_star_by_its_name_only(self):
         web = Web().with_moment("a")
         for call in (lambda: web.with_span("e", "a", 1, 2, 0), lambda: web.with_tie("start", "a", 1),
-                     lambda: Waiter(web).tighten("start", "a", 1), lambda: Waiter(web).tighten("start", "a", 1, 2)):
+                     lambda: Waiter(web).tighten("start", "a", 1), lambda: Waiter(web).tighten("start", "a", 1, 2),
+                     lambda: by_table(web, settled(web)[1], True), lambda: laid(("ours", 2, 5), 9),
+                     lambda: chosen(("ours", 2, 5), 9)):
             with self.assertRaises(TypeError):
                 call()
 

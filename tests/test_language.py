@@ -17,7 +17,7 @@ METHODS = set(
     "append clear copy count endswith extend find get index insert isalnum isalpha isdigit islower isspace isupper "
     "items join keys ljust lower lstrip partition pop remove replace reverse rfind rjust rpartition rsplit rstrip "
     "setdefault split splitlines startswith strip update upper values zfill bit_length add discard "
-    "__init__".split())
+    "removeprefix removesuffix __init__".split())
 DUNDERS = {"__init__", "__eq__", "__repr__", "__str__", "__len__", "__call__", "__enter__", "__exit__", "__iter__"}
 BARRED_NAMES = set(
     "register mro elements open input law version_info with_traceback add_note attrgetter breakpoint builtins compile "

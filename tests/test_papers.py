@@ -11,7 +11,7 @@ from tidewaiter.laying import bounds, heard_spans
 from tidewaiter.papers import meaning, paper_fits
 from tidewaiter.settle import settled, steered
 from tidewaiter.web import Web
-from helpers import HUGE, NO_NAMES, TRUTHS, Case, middling_random_web, small_random_web, state, with_moments
+from helpers import HUGE, NO_NAMES, TRUTHS, Case, settled_webs, small_random_web, state, with_moments
 
 NO_PLACES = (*TRUTHS, None, "0", "a", "", 0.0, 1.0, (0,), [0], {}, mock.ANY, -1, -2, HUGE, -HUGE)
 
@@ -229,17 +229,8 @@ def ring_by_the_words(web, rows, ring):
 
 
 class Fitting(Case):
-    def no_webs(self, rng, count):
-        found = 0
-        while found < count:
-            web = rng.choice([small_random_web, middling_random_web])(rng)
-            answer, paper = settled(web)
-            if answer == "no":
-                found += 1
-                yield web, paper
-
     def test_each_told_paper_fits(self):
-        for web, paper in self.no_webs(random.Random(20), 400):
+        for web, paper in settled_webs(random.Random(20), 400, "no"):
             before, kept = state(web), copy.deepcopy(paper)
             self.assertIs(paper_fits(web, paper), True)
             self.assertEqual((state(web), paper), (before, kept))
@@ -317,8 +308,8 @@ class Fitting(Case):
     def test_a_paper_of_another_web(self):
         rng = random.Random(202)
         fitting = 0
-        papers = [paper for web, paper in self.no_webs(rng, 120)]
-        webs = [small_random_web(rng) for _ in range(60)] + [web for web, paper in self.no_webs(rng, 60)]
+        papers = [paper for web, paper in settled_webs(rng, 120, "no")]
+        webs = [small_random_web(rng) for _ in range(60)] + [web for web, paper in settled_webs(rng, 60, "no")]
         for web in webs:
             for paper in papers:
                 if paper_fits(web, paper):

@@ -42,9 +42,9 @@ class Web:
         need_free_name(self, end)
         if not is_begin(self, begin):
             raise NoMoment(begin)
-        if not is_whole(low, 1, MOST_LENGTH) or not is_whole(high, low, MOST_LENGTH):
+        if not are_lengths(low, high):
             raise BadLength(low, high)
-        if late is not None and not is_whole(late, 0, MOST_LATE):
+        if not is_lateness(late):
             raise BadLate(late)
         if len(self.span_rows) >= MOST_SPANS:
             raise Full(MOST_SPANS)
@@ -122,6 +122,16 @@ def woven(by, moments, spans, ties):
 def is_begin(web, name):
     """Whether a span can begin there: at start or at a moment."""
     return is_one_of(name, [START] + web.moments())
+
+
+def are_lengths(low, high):
+    """Whether these are the least and the greatest length of a span."""
+    return is_whole(low, 1, MOST_LENGTH) and is_whole(high, low, MOST_LENGTH)
+
+
+def is_lateness(late):
+    """Whether an end can be heard so late: so many ticks after it came, or, by None, never."""
+    return late is None or is_whole(late, 0, MOST_LATE)
 
 
 def is_used(web, name):
