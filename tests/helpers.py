@@ -6,7 +6,8 @@ import string
 import unittest
 from unittest import mock
 
-from tidewaiter.errors import BadNews, BadPlan, Done, NoMoment, NoSpan, Over, TooEarly, TooLate, Unbegun, Unheard
+from tidewaiter.errors import (BadNews, BadPlan, BadText, Done, NoMoment, NoSpan, Over, TooEarly, TooLate, Unbegun,
+                               Unheard)
 from tidewaiter.laying import bases, heard_spans
 from tidewaiter.plans import need_plan
 from tidewaiter.settle import settled
@@ -92,6 +93,37 @@ def settled_webs(rng, count, wanted, maker=any_random_web):
         if answer == wanted:
             found += 1
             yield web, proof
+
+
+# What is written as no number, whatever the bounds.
+NO_FIGURES = ("", "-", "-0", "--1", "+1", "01", "00", "-01", "1.0", "1e1", "0x1", "1_0", "a", "None", "True", "1-",
+              "\u0661", "\u00b2", "\uff11", "1\t", "1\r", "1234567890", "-1234567890", "0000000001", "1" * 5000)
+# What is written as no name.
+NO_WORDS = ("", "-", "A", "aB", "abcdefghi", "a1", "1", "a_b", "a-b", "a.", "\u00e9", "\u00df", "\u0430", "a\t", "a\r",
+            "a;", ";", "a,")
+
+
+def done_to(web, deed):
+    """The web behind a deed, by the words of point [37]."""
+    word, *things = deed
+    if word == "span":
+        return web.with_span(*things[:4], late=things[4])
+    if word == "tie":
+        return web.with_tie(*things[:2], least=things[2], most=things[3])
+    plain = {"by": web.with_by, "moment": web.with_moment, "without": web.without, "untie": web.without_tie}
+    return plain[word](*things)
+
+
+def random_deed(rng, web):
+    """A deed that has the things of its word; it may be refused."""
+    names = [*web.points(), *"abefx"]
+    least, most = random_bounds(rng, 9)
+    low = rng.randint(0, 4)
+    return rng.choice([
+        ("by", rng.choice([1, 9, 30, 1000, 0, 1001])), ("moment", rng.choice("abcdx")),
+        ("span", rng.choice("efgh"), rng.choice(names), low, low + rng.randint(0, 3), rng.choice([0, 1, None, -1])),
+        ("tie", rng.choice(names), rng.choice(names), least, most),
+        ("without", rng.choice(names)), ("untie", rng.randint(-1, len(web.ties())))])
 
 
 def random_part(rng, size=9):
@@ -333,3 +365,61 @@ class Case(unittest.TestCase):
         for ends in itertools.product(*chosen):
             for tie in web.ties():
                 self.assertTrue(tie_holds(tie, {**ticks, **dict(ends)}), (parts(web), ticks, tie))
+
+
+class TextCase(Case):
+    """Texts that are refused with the place of the first line that can't stand behind those ahead of it.
+
+    lines are those of a good text, read reads a text, and write writes again what was read.
+    """
+
+    lines, read, write = [], None, None
+
+    def check(self, row, lines):
+        self.check_refused(BadText, {"row": row}, self.read, "\n".join(lines))
+
+    def check_line(self, row, line):
+        """A line that can't stand at a place, whatever stands behind it."""
+        self.check(row, [*self.lines[:row], line, *self.lines[row + 1:]])
+        self.check(row, [*self.lines[:row], line])
+        self.check(row, [*self.lines[:row], line, "", "odd"])
+
+    def check_blanks(self):
+        for row, line in enumerate(self.lines):
+            self.check_line(row, f" {line}")
+            self.check_line(row, f"{line} ")
+            self.check_line(row, f"{line}\r")
+            for at in [at for at, sign in enumerate(line) if sign == " "]:
+                for sign in ("  ", "\t", "\u00a0", "", "_"):
+                    self.check_line(row, line[:at] + sign + line[at + 1:])
+
+    def check_ends_of_lines(self):
+        for text in ("", "\n", " ", "\n" + "\n".join(self.lines)):
+            self.check_refused(BadText, {"row": 0}, self.read, text)
+        for row in range(len(self.lines) + 1):
+            self.check(row, [*self.lines[:row], "", *self.lines[row:]])
+        for end in ("\r\n", "\r", "\v", "\f", "\u2028", "\x85", " ", "; "):
+            self.check_refused(BadText, {"row": 0}, self.read, end.join(self.lines))
+
+    def check_signs(self, rng):
+        """Each sign of the text left out, put in or put for another one."""
+        text, refused = "\n".join(self.lines), 0
+        for at in range(len(text)):
+            for sign in ("", *rng.sample("abst019 -+\n\t\u0661;A", 5)):
+                for spoilt in (text[:at] + sign + text[at + 1:], text[:at] + sign + text[at:]):
+                    refused += self.is_refused_by_prefixes(spoilt.split("\n"))
+        self.assertGreater(refused, 1000)
+
+    def is_refused_by_prefixes(self, lines):
+        """Whether lines are refused, and then it is at the first one with which those ahead of it are no text."""
+        good = [count for count in range(1, len(lines) + 1) if self.is_text("\n".join(lines[:count]))]
+        self.assertEqual(good, list(range(1, len(good) + 1)))
+        if len(good) < len(lines):
+            self.check(len(good), lines)
+        return len(good) < len(lines)
+
+    def is_text(self, text):
+        try:
+            return self.write(self.read(text)) == text
+        except BadText:
+            return False

@@ -34,6 +34,19 @@ class Refusals(unittest.TestCase):
                 self.assertEqual(issubclass(getattr(errors, word), getattr(errors, other)), other == family)
             self.assertFalse(issubclass(getattr(errors, word), errors.NothingBack))
 
+    def test_each_against_each_other(self):
+        made = {word: getattr(errors, word)(*fields) for family, word, fields in ROWS}
+        made["NothingBack"] = errors.NothingBack()
+        above = {word: {word, family, FAMILIES[family][0].__name__} for family, word, fields in ROWS}
+        above["NothingBack"] = {"NothingBack", "IndexError"}
+        for word, error in made.items():
+            for other in [*made, *FAMILIES]:
+                self.assertEqual(isinstance(error, getattr(errors, other)), other in above[word], (word, other))
+            # An IndexError is a LookupError for Python, too.
+            for kind in (ValueError, RuntimeError, IndexError):
+                self.assertEqual(isinstance(error, kind), kind.__name__ in above[word], (word, kind))
+            self.assertEqual(isinstance(error, LookupError), bool({"LookupError", "IndexError"} & above[word]))
+
     def test_fields_by_position_and_by_name(self):
         for family, word, fields in ROWS:
             kind = getattr(errors, word)

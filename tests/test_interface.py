@@ -5,12 +5,16 @@ import inspect
 import unittest
 
 from tidewaiter.asks import corners, culprits, deaf, deafest, foreseen, soonest, widest
+from tidewaiter.desk import Desk
 from tidewaiter.laying import bases, bounds, heard_spans, offset
+from tidewaiter.log import Log
+from tidewaiter.pages import page, read_page
 from tidewaiter.papers import meaning, paper_fits
 from tidewaiter.plans import chosen, laid, need_plan, readings
 from tidewaiter.play import broken, by_table, play, spoil
 from tidewaiter.settle import settled, steered
 from tidewaiter.table import Table, table_fits
+from tidewaiter.texts import read_web, write_web
 from tidewaiter.tongue import read_plan, write_plan
 from tidewaiter.waiter import Waiter
 from tidewaiter.web import Web
@@ -26,6 +30,8 @@ FUNCTIONS = {
              "deafest": "(web, end)", "soonest": "(web)", "culprits": "(web)"},
     "plans": {"need_plan": "(plan)", "readings": "(plan)", "laid": "(plan, *, by=100)", "chosen": "(plan, *, by=100)"},
     "tongue": {"write_plan": "(plan)", "read_plan": "(text)"},
+    "texts": {"write_web": "(web)", "read_web": "(text)"},
+    "pages": {"page": "(log)", "read_page": "(text)"},
 }
 METHODS = {
     ("web", "Web"): {
@@ -43,6 +49,11 @@ METHODS = {
         "do": "(self, name)", "hear": "(self, end)", "pass_on": "(self)", "step_back": "(self)",
         "tighten": "(self, one, other, *, least=None, most=None)", "go": "(self, steps)", "is_over": "(self)",
         "rest": "(self)", "twin": "(self)", "__len__": "(self)"},
+    ("log", "Log"): {
+        "__init__": "(self, by=100)", "do": "(self, deed)", "deal": "(self, deeds)", "now": "(self)",
+        "answer": "(self)", "deeds": "(self)", "undo": "(self)", "redo": "(self)", "as_of": "(self, count)",
+        "twin": "(self)", "__len__": "(self)"},
+    ("desk", "Desk"): {"__init__": "(self, by=100)", "say": "(self, line)"},
 }
 VALUES = {"web": {"BY": 100}}
 
@@ -123,6 +134,16 @@ class Interface(unittest.TestCase):
         self.assertEqual(laid(by=9, plan=plan), Web(9).with_moment("a").with_tie("start", "a", least=2, most=5))
         self.assertEqual((chosen(by=9, plan=plan), chosen(by=1, plan=plan)), (plan, None))
         self.assertEqual(read_plan(text=write_plan(plan=plan)), plan)
+
+    def test_texts_and_logs_by_name(self):
+        web = Web(by=5).with_moment("a").with_moment("b")
+        self.assertEqual(read_web(text=write_web(web=web)), web)
+        log = Log(by=9)
+        log.do(deed=("by", 5))
+        self.assertEqual(log.deal(deeds=[("moment", "a"), ("moment", "b")]), web)
+        self.assertEqual((log.as_of(count=0), log.as_of(count=2)), (Web(9), web))
+        self.assertEqual(read_page(text=page(log=log)).deeds(), log.deeds())
+        self.assertEqual(Desk(by=5).say(line="web"), "by 5")
 
     def test_what_stands_behind_the_star_by_its_name_only(self):
         web = Web().with_moment("a")

@@ -2,6 +2,7 @@
 
 import ast
 import builtins
+import functools
 import pathlib
 import re
 import unittest
@@ -31,6 +32,7 @@ BARRED_NODES = (ast.Global, ast.AsyncFunctionDef, ast.AsyncFor, ast.AsyncWith, a
 FUNCTIONS = (ast.FunctionDef, ast.Lambda)
 
 
+@functools.lru_cache(None)
 def trees():
     return [(path, ast.parse(path.read_text())) for path in FILES]
 
@@ -39,6 +41,7 @@ def nodes(tree, *kinds):
     return [node for node in ast.walk(tree) if isinstance(node, kinds)]
 
 
+@functools.lru_cache(None)
 def own_methods():
     return {row.name for path, tree in trees() for kind in nodes(tree, ast.ClassDef) for row in kind.body
             if isinstance(row, ast.FunctionDef)}
@@ -56,7 +59,7 @@ def imported(tree):
 
 def bound(tree):
     """All names that a file gives a meaning, by whatever means."""
-    found = [node.name for node in nodes(tree, ast.FunctionDef, ast.ClassDef)]
+    found = [node.name for node in nodes(tree, ast.FunctionDef, ast.ClassDef, ast.ExceptHandler) if node.name]
     found += [node.arg for node in nodes(tree, ast.arg)]
     found += [node.id for node in nodes(tree, ast.Name) if isinstance(node.ctx, ast.Store)]
     return found + [node.attr for node in nodes(tree, ast.Attribute) if isinstance(node.ctx, ast.Store)]
@@ -167,6 +170,32 @@ class Statements(unittest.TestCase):
                     continue
                 self.assertIsInstance(row, (ast.ImportFrom, ast.FunctionDef, ast.ClassDef, ast.Assign), path)
 
+    def test_tables_at_module_level_are_only_read(self):
+        tables = {target.id for path, tree in trees() for row in tree.body if isinstance(row, ast.Assign)
+                  and isinstance(row.value, (ast.Dict, ast.List)) for target in row.targets}
+        self.assertTrue({"FORMS", "ANSWERS", "PAIR_RULES"} <= tables)
+        for path, tree in trees():
+            fine = [node.value for node in nodes(tree, ast.Subscript) if isinstance(node.ctx, ast.Load)]
+            fine += [side for node in nodes(tree, ast.Compare) for side in node.comparators]
+            fine += [node.iter for node in nodes(tree, ast.For, ast.comprehension)]
+            fine += [side for node in nodes(tree, ast.Call) if isinstance(node.func, ast.Name)
+                     and node.func.id in ("list", "dict", "len") for side in node.args]
+            for node in nodes(tree, ast.Name):
+                if node.id in tables and isinstance(node.ctx, ast.Load):
+                    self.assertIn(node, fine, (path, node.lineno, node.id))
+
+    def test_functions_of_tables_get_a_name_first(self):
+        for path, tree in trees():
+            for node in nodes(tree, ast.Call):
+                self.assertIsInstance(node.func, (ast.Name, ast.Attribute), (path, node.lineno))
+
+    def test_behind_a_star_of_a_call_stands_a_name(self):
+        for path, tree in trees():
+            for node in nodes(tree, ast.Call):
+                for side in node.args:
+                    if isinstance(side, ast.Starred):
+                        self.assertIsInstance(side.value, (ast.Name, ast.Attribute), (path, node.lineno))
+
     def test_is_stands_beside_none_and_truths(self):
         for path, tree in trees():
             for node in nodes(tree, ast.Compare):
@@ -191,7 +220,8 @@ class Statements(unittest.TestCase):
         own = {node.name for path, tree in trees() if path.stem == "errors" for node in nodes(tree, ast.ClassDef)}
         for path, tree in trees():
             for node in nodes(tree, ast.ExceptHandler):
-                self.assertIn(getattr(node.type, "id", None), own | {"KeyError", "ZeroDivisionError"}, path)
+                for kind in node.type.elts if isinstance(node.type, ast.Tuple) else [node.type]:
+                    self.assertIn(getattr(kind, "id", None), own | {"KeyError", "ZeroDivisionError"}, path)
 
     def test_len_tells_a_len(self):
         for path, tree in trees():

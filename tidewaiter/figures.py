@@ -41,3 +41,19 @@ def read_name(word):
 def written(thing):
     """The word for a number, a name or None."""
     return NONE if thing is None else str(thing)
+
+
+READERS = {"number": read_number, "bound": read_bound, "name": read_name}
+
+
+def read_words(form, words):
+    """What these words are, where form tells the kind of each."""
+    if len(words) != len(form):
+        raise BadText(0)
+    return [read_word(kind, word) for kind, word in zip(form, words)]
+
+
+def read_word(kind, word):
+    """What a word of this kind is."""
+    reader = READERS[kind]
+    return reader(word)
